@@ -23,7 +23,7 @@ def evidence(scene, said, chain):
 def meets(scene, said):
     """For each goal, whether a set meets it."""
     check_scene(scene)
-    left = scene(said)
+    left = scene.remaining(said)
     met = []
     for chain, wanted in scene.goals:
         known = is_fact_in(scene, smallest_circle(scene, left, chain)[-1])
@@ -60,10 +60,15 @@ def is_path(scene, said, chain, found):
     return found[0] == scene.actual and all(linked) and found[-1] not in scene.fact
 
 
+def unmet_goals(scene, said):
+    """The indices of the goals that a set does not meet."""
+    return [index for index, met in enumerate(meets(scene, said)) if not met]
+
+
 def worlds_left(scene, said, chain):
     """The worlds that remain if a set is said, after all three arguments have been checked."""
     check_scene(scene)
-    left = scene(said)
+    left = scene.remaining(said)
     if not is_chain(chain, scene.people):
         raise BadChain("not a tuple of 1 to 3 names of people")
     return left

@@ -126,17 +126,27 @@ class Scene:
         return len(self._sentences)
 
     def __call__(self, said):
-        if not self._is_set(said):
-            raise BadSet("not a tuple of different names in the order of the scene")
+        return self.remaining(said)
+
+    def remaining(self, said):
+        """The worlds that remain if a set is said."""
+        # Properties and operators ask for this too, and they call no object.
+        self.check_set(said)
         left = Claim.sure(self._count)
         for name in said:
             left = left & self[name]
         return left.worlds
 
-    def _is_set(self, said):
+    def check_set(self, said):
+        """Refuses what is not a set of sentences of this scene."""
         if not isinstance(said, tuple) or not all([name in self for name in said]):
-            return False
-        return list(said) == [name for name in self._sentences if name in said]
+            raise BadSet("not a tuple of names of sentences")
+        if list(said) != list(self.in_order(said)):
+            raise BadSet("not different names in the order of the scene")
+
+    def in_order(self, names):
+        """The set of the sentences that have these names."""
+        return tuple([name for name in self._sentences if name in names])
 
     def sees(self, person, world):
         """The number that a person sees in a world."""
