@@ -130,12 +130,10 @@ class Scene:
 
     def remaining(self, said):
         """The worlds that remain if a set is said."""
-        # Properties and operators ask for this too, and they call no object.
+        # What a property runs calls no object, so a desk asks by this name.
         self.check_set(said)
-        left = Claim.sure(self._count)
-        for name in said:
-            left = left & self[name]
-        return left.worlds
+        claims = [self[name] for name in said]
+        return tuple([world for world in range(self._count) if all([world in claim for claim in claims])])
 
     def check_set(self, said):
         """Refuses what is not a set of sentences of this scene."""
